@@ -48,6 +48,47 @@ def parted():
     return [8]
 
 
+def turns(points):
+    return [9, points]
+
+
+def turned():
+    return [10]
+
+
+def keeps(points, numbers):
+    return [11, points] + counted(numbers)
+
+
+def machine(states, numbers):
+    return [12, states] + counted(numbers)
+
+
+def seek():
+    return [13]
+
+
+def down():
+    return [14]
+
+
+def unique():
+    return [15]
+
+
+def normal(word):
+    return [16] + counted(word)
+
+
+def same(word, other):
+    return [17] + counted(word) + counted(other)
+
+
+def told(*words):
+    """The words as an answer tells them with their lengths, one behind the other."""
+    return [number for word in words for number in counted(word)]
+
+
 def taken_apart(given):
     """The answers one by one; fails if the counts don't fit the list."""
     one_by_one = []

@@ -1,10 +1,10 @@
-"""weights and parted."""
+"""weights, parted and down."""
 
 import itertools
 import math
 import unittest
 
-from tests.calls import ask, ask_loaded, parted, weights
+from tests.calls import ask, ask_loaded, down, parted, weights
 
 
 def basis_of(text):
@@ -20,6 +20,10 @@ def basis_of(text):
 
 def parted_by(text):
     return ask_loaded(text, parted())[0]
+
+
+def going_down(text):
+    return ask_loaded(text, down())[0]
 
 
 class Basis(unittest.TestCase):
@@ -196,6 +200,62 @@ class PartedByItsWords(unittest.TestCase):
                 start = "a" * amounts[0] + "b" * amounts[1] or "."
                 text = f"letters ab; move {moves}; start {start}; goal .;"
                 self.assertEqual(parted_by(text), self.expected(rows, list(amounts)), text)
+
+
+class Down(unittest.TestCase):
+    def test_first_weights(self):
+        self.assertEqual(going_down("letters ab; move aa -> .; move bb -> .;"), [0, 1, 1])
+        self.assertEqual(going_down("letters ab; move a -> b;"), [0, 1, 0])
+        self.assertEqual(going_down("letters ab; move b -> a;"), [0, 0, 1])
+        self.assertEqual(going_down("letters ba; move b -> a;"), [0, 1, 0])
+        self.assertEqual(going_down("letters abc; move abc -> .;"), [0, 0, 0, 1])
+        self.assertEqual(going_down("letters abc; move abc -> c;"), [0, 0, 1, 0])
+
+    def test_all_moves_count(self):
+        self.assertEqual(going_down("letters ab; move a -> b; move b -> .;"), [0, 2, 1])
+        self.assertEqual(going_down("letters abcd; move a -> b; move b -> c; move c -> d;"), [0, 3, 2, 1, 0])
+
+    def test_weights_up_to_three(self):
+        self.assertEqual(going_down("letters ab; move a -> bb; move b -> .;"), [0, 3, 1])
+        self.assertEqual(going_down("letters ab; move a -> bbb; move b -> .;"), [1])
+        self.assertEqual(going_down("letters ab; move aaaa -> bbbbbbbbbbb; move b -> .;"), [0, 3, 1])
+        self.assertEqual(going_down("letters abcd; move a -> b; move b -> c; move c -> d; move d -> .;"), [1])
+
+    def test_same_weight_is_not_less(self):
+        self.assertEqual(going_down("letters ab; move ab -> ba;"), [1])
+        self.assertEqual(going_down("letters ab; move ab -> ba; move aa -> .;"), [1])
+        self.assertEqual(going_down("letters ab; move a -> b; move b -> a;"), [1])
+
+    def test_empty_left_word(self):
+        self.assertEqual(going_down("letters a; move . -> .;"), [1])
+        self.assertEqual(going_down("letters a; move . -> a;"), [1])
+
+    def test_no_moves(self):
+        self.assertEqual(going_down("letters a;"), [0, 0])
+        self.assertEqual(going_down("letters abcd; start a; goal b;"), [0, 0, 0, 0, 0])
+        self.assertEqual(ask(down()), [[0]])
+
+    def test_wherever_moves_stand(self):
+        for move in ("^a -> .", "a$ -> .", "^a$ -> ."):
+            self.assertEqual(going_down(f"letters ab; move {move};"), [0, 1, 0], move)
+
+
+class DownByItsWords(unittest.TestCase):
+    """down against all weights, gone through as the words say."""
+
+    moves = ("ab -> c", "aa -> b", "bc -> a", "c -> ab", "b -> cc", "abc -> a", "bb -> aa", "c -> .", "ca -> bb")
+
+    def test_all(self):
+        for chosen in itertools.product(self.moves, repeat=2):
+            pairs = [move.replace(".", "").split(" -> ") for move in chosen]
+            expected = [1]
+            for candidate in itertools.product(range(4), repeat=3):
+                weighed = [[sum(candidate["abc".index(letter)] for letter in word) for word in pair] for pair in pairs]
+                if all(left > right for left, right in weighed):
+                    expected = [0, *candidate]
+                    break
+            text = "letters abc; " + "".join(f"move {move}; " for move in chosen)
+            self.assertEqual(going_down(text), expected, text)
 
 
 if __name__ == "__main__":

@@ -1,1 +1,1 @@
-"""Moves on words: ways from word to word, and weights that tell why there is none."""
+"""Moves on words: ways from word to word, proofs that there is none, and normal words where all ways meet again."""

@@ -1,9 +1,12 @@
 """The calls on an object that holds a system, and how they are told and answered in lists of numbers."""
 
+from wordmoves.machines import first_move_out, first_proof, machine_from
+from wordmoves.normals import first_parting, first_steps, normal_word
 from wordmoves.searches import search_within, way_to
 from wordmoves.texts import one_form, system_from
 from wordmoves.tokens import Fault
-from wordmoves.weights import parting_weights, staying_basis
+from wordmoves.turns import all_turns, first_parted_move, first_turns_apart, staying_turns, turn_apart, turns_from
+from wordmoves.weights import falling_weights, parting_weights, staying_basis
 from wordmoves.words import MOST_LETTERS, System, codes_of, given_word, possible_places, word_from
 
 NO_BYTE = -1
@@ -12,10 +15,15 @@ NO_MOVE = -3
 NO_START = -6
 OUT_OF_RANGE = -7
 NO_GOAL = -8
+BOUND_MOVE = -9
+NO_SUCH_LIST = -11
 NO_WORD = -12
 
 LARGEST_BYTE = 255
 LONGEST_TEXT = 4096
+MOST_POINTS_COUNTED = 3
+MOST_POINTS = 4
+MOST_STATES = 4
 
 
 class Holder:
@@ -54,9 +62,16 @@ def answers(calls):
 
 def answer_next(holder, reader):
     call = reader.take_number()
-    system = holder.system
     if call == 0:
         return load(holder, reader.take_row())
+    if call <= 6:
+        return answer_about_ways(holder.system, call, reader)
+    if call <= 13:
+        return answer_about_proofs(holder.system, call, reader)
+    return answer_about_ends(holder.system, call, reader)
+
+
+def answer_about_ways(system, call, reader):
     if call == 1:
         return written(system)
     if call == 2:
@@ -67,13 +82,33 @@ def answer_next(holder, reader):
         return search(system, reader.take_number())
     if call == 5:
         return way(system, reader.take_number())
-    if call == 6:
-        return reach(system, reader.take_number(), reader.take_row())
+    return reach(system, reader.take_number(), reader.take_row())
+
+
+def answer_about_proofs(system, call, reader):
     if call == 7:
         return weights(system)
     if call == 8:
         return parted(system)
-    raise NotImplementedError("no such call")
+    if call == 9:
+        return turns(system, reader.take_number())
+    if call == 10:
+        return turned(system)
+    if call == 11:
+        return keeps(system, reader.take_number(), reader.take_row())
+    if call == 12:
+        return machine(system, reader.take_number(), reader.take_row())
+    return seek(system)
+
+
+def answer_about_ends(system, call, reader):
+    if call == 14:
+        return down(system)
+    if call == 15:
+        return unique(system)
+    if call == 16:
+        return normal(system, reader.take_row())
+    return same(system, reader.take_row(), reader.take_row())
 
 
 def load(holder, text):
@@ -180,12 +215,132 @@ def weights(system):
     return told
 
 
-def parted(system):
+def refusal_without_both(system):
+    """The refusal that is due where a start and a goal are wanted, or 0."""
     if system.start is None:
-        return [NO_START]
+        return NO_START
     if system.goal is None:
-        return [NO_GOAL]
+        return NO_GOAL
+    return 0
+
+
+def parted(system):
+    refusal = refusal_without_both(system)
+    if refusal < 0:
+        return [refusal]
     found = parting_weights(system, system.start, system.goal)
     if found is None:
         return [1]
     return [0, found[0]] + found[1]
+
+
+def turns(system, points):
+    if points < 1 or points > MOST_POINTS_COUNTED:
+        return [OUT_OF_RANGE]
+    return [0, len(all_turns(system, points)), len(staying_turns(system, points))]
+
+
+def turned(system):
+    refusal = refusal_without_both(system)
+    if refusal < 0:
+        return [refusal]
+    found = first_turns_apart(system)
+    if found is None:
+        return [1]
+    told = [0, found[0]]
+    for row in found[1]:
+        told.extend(row)
+    return told
+
+
+def keeps(system, points, numbers):
+    if points < 1 or points > MOST_POINTS:
+        return [OUT_OF_RANGE]
+    rows = turns_from(system, points, numbers)
+    if rows is None:
+        return [NO_SUCH_LIST]
+    number = first_parted_move(system, points, rows)
+    if number is not None:
+        return [1, number]
+    if refusal_without_both(system) < 0:
+        return [0, 0]
+    return [0, 1 if turn_apart(system, points, rows) else 0]
+
+
+def machine(system, states, numbers):
+    refusal = refusal_without_both(system)
+    if refusal < 0:
+        return [refusal]
+    if states < 1 or states > MOST_STATES:
+        return [OUT_OF_RANGE]
+    told = machine_from(system, states, numbers)
+    if told is None:
+        return [NO_SUCH_LIST]
+    if not told.accepts(system.start):
+        return [1]
+    number = first_move_out(system, told)
+    if number is not None:
+        return [2, number]
+    return [3 if told.accepts(system.goal) else 0]
+
+
+def seek(system):
+    refusal = refusal_without_both(system)
+    if refusal < 0:
+        return [refusal]
+    found = first_proof(system)
+    if found is None:
+        return [1]
+    return [0, found[0]] + found[1]
+
+
+def down(system):
+    found = falling_weights(system)
+    if found is None:
+        return [1]
+    return [0] + found
+
+
+def hindrance_to_ends(system):
+    """What is answered instead if the moves give no normal words, the refusal or 2; else 0."""
+    for move in system.moves:
+        if move.at_beginning or move.at_end:
+            return BOUND_MOVE
+    return 2 if falling_weights(system) is None else 0
+
+
+def unique(system):
+    hindrance = hindrance_to_ends(system)
+    if hindrance != 0:
+        return [hindrance]
+    meeting = first_parting(system)
+    if meeting is None:
+        return [0]
+    told = [1, meeting.first, meeting.second]
+    for word in (meeting.word, normal_word(system, meeting.by_first), normal_word(system, meeting.by_second)):
+        told.extend(counted_codes(word))
+    return told
+
+
+def normal(system, codes):
+    word = word_from(system, codes)
+    if word is None:
+        return [NO_WORD]
+    hindrance = hindrance_to_ends(system)
+    if hindrance != 0:
+        return [hindrance]
+    words = first_steps(system, word)
+    return [0, len(words) - 1] + counted_codes(words[-1])
+
+
+def same(system, codes, other_codes):
+    word = word_from(system, codes)
+    other = word_from(system, other_codes)
+    if word is None or other is None:
+        return [NO_WORD]
+    hindrance = hindrance_to_ends(system)
+    if hindrance != 0:
+        return [hindrance]
+    if first_parting(system) is not None:
+        return [3]
+    return [1 if normal_word(system, word) == normal_word(system, other) else 0]

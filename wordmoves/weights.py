@@ -1,7 +1,8 @@
-"""Weights of letters that stay under all moves, as they are or by what is left when divided."""
+"""Weights of letters that stay under all moves, as they are or by what is left when divided, or that go down."""
 
 # Of 2 to 12. What 6, 10 or 12 would part is parted before by one of the two coprime factors it has.
 DIVISORS = (2, 3, 4, 5, 7, 8, 9, 11)
+HEAVIEST_TRIED = 3
 
 
 def letter_differences(letters, first, second):
@@ -112,5 +113,21 @@ def parting_by_rest(moves, difference, divisor):
 def stay_by_rest(weights, moves, divisor):
     for amounts in moves:
         if weigh(weights, amounts) % divisor != 0:
+            return False
+    return True
+
+
+def falling_weights(system):
+    """The first weights that go down, or None."""
+    moves = move_differences(system)
+    for weights in all_rows(len(system.letters), list(range(HEAVIEST_TRIED + 1))):
+        if go_down(weights, moves):
+            return weights
+    return None
+
+
+def go_down(weights, moves):
+    for amounts in moves:
+        if weigh(weights, amounts) <= 0:
             return False
     return True
